@@ -1,0 +1,1 @@
+"""Which lines of a paragraph can further words no longer change?"""
