@@ -55,3 +55,73 @@ def all_texts(width, most):
     """Yield all texts for this width of at most so many words."""
     for many in range(most + 1):
         yield from itertools.product(range(1, width + 1), repeat=many)
+
+
+class Grown:
+    """A text that is laid out anew with each word, by whole layouts, held from their last end on."""
+
+    def __init__(self, width, text=(), closed=((0, ()),)):
+        self.width = width
+        self.text = text
+        # For the first 0 to n words: (least full cost negated, ends of the latest such layout).
+        self.closed = closed
+
+    def choices(self, text, square_last):
+        """Return (cost negated, ends) of the last lines of a text that has at most one word more than is laid out."""
+        found = []
+        length = -1
+        for begin in range(len(text) - 1, -1, -1):
+            length += 1 + text[begin]
+            if length > self.width:
+                break
+            price, ends = self.closed[begin]
+            found.append((price - (self.width - length) ** 2 * square_last, (len(text),) + ends))
+        return found
+
+    def then(self, word):
+        text = self.text + (word,)
+        return Grown(self.width, text, self.closed + (max(self.choices(text, 1)),))
+
+    def best(self):
+        """Return the best layout."""
+        if not self.text:
+            return ()
+        return max(self.choices(self.text, 0))[1][::-1]
+
+
+def grown(width, text):
+    """Return a text that is laid out, after each of its words."""
+    found = Grown(width)
+    for word in text:
+        found = found.then(word)
+    return found
+
+
+def left_ends(laid_out, most):
+    """Return a dict: for each way in which futures of at most so many words lay out a text, the least number of
+    words of such a future. A way is (the ends in the text, whether the future has words)."""
+    many = len(laid_out.text)
+    found = {}
+    waiting = [(laid_out, 0)]
+    while waiting:
+        longer, words = waiting.pop()
+        way = (tuple(end for end in longer.best() if end <= many), words > 0)
+        found[way] = min(found.get(way, words), words)
+        if words < most:
+            waiting.extend((longer.then(word), words + 1) for word in range(1, longer.width + 1))
+    return found
+
+
+def states_by(ways, many):
+    """Return the states of the places 1 to many, as the ways of left_ends tell them."""
+    each = [set(ends) for ends, _ in ways]
+    words = []
+    for place in range(1, many + 1):
+        ending = sum(place in ends for ends in each)
+        words.append("always" if ending == len(each) else "sometimes" if ending else "never")
+    return tuple(words)
+
+
+def settled_by(ways):
+    """Return the lines of a text that are in all ways of left_ends."""
+    return tuple(sorted(set.intersection(*[set(zip((0,) + ends, ends)) for ends, _ in ways])))

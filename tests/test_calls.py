@@ -4,7 +4,8 @@ import inspect
 import itertools
 import unittest
 
-from settledlines import layouts, words
+from settledlines import layouts, repeated, settling, starts, states, words
+from settledlines.errors import BadPlace
 
 TEXT = (1, 1, 1, 1, 1, 6, 2)
 CALLS = [
@@ -26,11 +27,50 @@ CALLS = [
     (layouts.closed_cost, {"width": 6, "text": TEXT}),
     (layouts.count_best, {"width": 6, "text": TEXT}),
     (layouts.best_layouts, {"width": 6, "text": TEXT}),
+    (starts.start_of, {"width": 6, "text": TEXT, "future": (1, 2, 6)}),
+    (starts.starts, {"width": 6, "text": TEXT}),
+    (starts.closing_starts, {"width": 6, "text": TEXT}),
+    (starts.open_starts, {"width": 6, "text": TEXT}),
+    (states.state_of, {"width": 6, "text": TEXT, "place": 3}),
+    (states.states, {"width": 6, "text": TEXT}),
+    (states.settled_lines, {"width": 6, "text": TEXT}),
+    (states.settled_words, {"width": 6, "text": TEXT}),
+    (states.two_futures, {"width": 6, "text": TEXT, "place": 7}),
+    (states.shows_open, {"width": 6, "text": TEXT, "place": 7, "value": ((), (1,))}),
+    (states.shows_open, {"width": 6, "text": TEXT, "place": 1, "value": [{}, ([3],)]}),
+    (states.shows_open, {"width": 6, "text": TEXT, "place": 1, "value": ({"a": [1]}, ([3],))}),
+    (settling.settling_words, {"width": 6, "text": TEXT, "place": 7}),
+    (settling.least_settling, {"width": 6, "text": TEXT, "place": 7}),
+    (repeated.held_words, {"width": 6, "text": TEXT}),
+    (repeated.lag, {"width": 6, "start": TEXT, "pattern": (2, 1)}),
+    (repeated.lag, {"width": 6, "start": (3,), "pattern": (2,)}),
 ]
 KINDS = {
     "is_width": bool, "is_text": bool, "line_length": int, "gap": int, "last_end": int, "is_layout": bool,
     "lines_of": tuple, "cost": int, "full_cost": int, "best_layout": tuple, "closed_layout": tuple, "best_cost": int,
-    "closed_cost": int, "count_best": int, "best_layouts": list,
+    "closed_cost": int, "count_best": int, "best_layouts": list, "start_of": int, "starts": tuple,
+    "closing_starts": tuple, "open_starts": tuple, "state_of": str, "states": tuple, "settled_lines": tuple,
+    "settled_words": int, "two_futures": tuple, "shows_open": bool, "settling_words": tuple, "least_settling": int,
+    "held_words": int, "lag": int,
+}
+# What returns None for some arguments, and such arguments.
+NONE_FOR = [(states.two_futures, (6, TEXT, 1)), (repeated.lag, (6, (3,), (2,)))]
+# Calls with a value that is no place, which raise BadPlace.
+WRONG_CALLS = [
+    (states.state_of, {"width": 6, "text": TEXT, "place": [8]}),
+    (states.two_futures, {"width": 6, "text": TEXT, "place": {"a": [8]}}),
+    (states.shows_open, {"width": 6, "text": TEXT, "place": ([8],), "value": [1]}),
+    (settling.settling_words, {"width": 6, "text": TEXT, "place": 8}),
+    (settling.least_settling, {"width": 6, "text": TEXT, "place": True}),
+]
+FILES = {
+    words: ["is_width", "is_text", "line_length", "gap", "last_end"],
+    layouts: ["is_layout", "lines_of", "cost", "full_cost", "best_layout", "closed_layout", "best_cost",
+              "closed_cost", "count_best", "best_layouts"],
+    starts: ["start_of", "starts", "closing_starts", "open_starts"],
+    states: ["state_of", "states", "settled_lines", "settled_words", "two_futures", "shows_open"],
+    settling: ["settling_words", "least_settling"],
+    repeated: ["held_words", "lag"],
 }
 
 
@@ -69,8 +109,24 @@ class Calls(unittest.TestCase):
 
     def test_kinds_of_results(self):
         for function, arguments in CALLS:
-            self.assertIs(type(outcome(function(**arguments))), KINDS[function.__name__])
+            result = outcome(function(**arguments))
+            if result is not None:
+                self.assertIs(type(result), KINDS[function.__name__])
+        for function, arguments in NONE_FOR:
+            self.assertIsNone(function(*arguments))
         self.assertEqual({function.__name__ for function, _ in CALLS}, set(KINDS))
+
+    def test_wrong_places_by_position_and_by_name(self):
+        for function, arguments in WRONG_CALLS:
+            before = repr(arguments)
+            for names in itertools.permutations(arguments):
+                with self.assertRaises(BadPlace) as caught:
+                    function(**{name: arguments[name] for name in names})
+                self.assertIs(caught.exception.value, arguments["place"])
+            with self.assertRaises(BadPlace) as caught:
+                function(*arguments.values())
+            self.assertIs(caught.exception.value, arguments["place"])
+            self.assertEqual(repr(arguments), before)
 
     def test_kinds_inside(self):
         for value in (layouts.best_layout(6, TEXT), layouts.closed_layout(6, TEXT), layouts.best_layout(6, ()),
@@ -92,10 +148,10 @@ class Calls(unittest.TestCase):
         self.assertEqual(pairs, [(ends, ends) for ends in expected])
 
     def test_functions_stand_in_their_files(self):
-        for function, _ in CALLS:
-            module = words if hasattr(words, function.__name__) else layouts
-            self.assertIs(getattr(module, function.__name__), function)
-            self.assertEqual(function.__module__, module.__name__)
+        for module, names in FILES.items():
+            for name in names:
+                self.assertEqual(getattr(module, name).__module__, module.__name__)
+        self.assertEqual({name for names in FILES.values() for name in names}, set(KINDS))
 
 
 if __name__ == "__main__":

@@ -1,12 +1,17 @@
-"""The examples of points 5 and 6 of the document."""
+"""The examples of points 5 to 10 of the document."""
 
 import unittest
 
-from settledlines.errors import TooLong
+from settledlines.errors import BadPlace, TooLong
 from settledlines.layouts import (best_cost, best_layout, best_layouts, closed_cost, closed_layout, cost, count_best,
                                   full_cost, is_layout, lines_of)
+from settledlines.repeated import held_words, lag
+from settledlines.settling import least_settling, settling_words
+from settledlines.starts import closing_starts, open_starts, start_of, starts
+from settledlines.states import settled_lines, settled_words, shows_open, state_of, states, two_futures
 from settledlines.words import gap, is_text, is_width, last_end, line_length
 
+TWOS = (2, 2)
 SHORT = (2, 2, 3)
 TURNED = (3, 2, 2)
 
@@ -73,6 +78,96 @@ class LayoutsExamples(unittest.TestCase):
         self.assertEqual(
             [list(best_layouts(6, ones)), best_cost(6, ones), count_best(6, ones)],
             [[(3, 5, 6), (2, 5, 6)], 10, 2])
+
+
+class StartsExamples(unittest.TestCase):
+    def test_twos(self):
+        self.assertEqual(
+            [closing_starts(5, TWOS), open_starts(5, TWOS), starts(5, TWOS), start_of(5, TWOS, (1, 5))],
+            [((1, 1, 1), (2, 5, 2)), ((1, 5, 2),), (1, 2), 1])
+
+    def test_turned(self):
+        self.assertEqual(
+            [closing_starts(6, TURNED), closing_starts(10 ** 9, (1,))],
+            [((1, 3, 2), (4, 6, 3)), ((1, 999999998, 0), (999999999, 1000000000, 1))])
+
+    def test_four_words(self):
+        self.assertEqual(
+            [closing_starts(7, (2, 2, 2, 3)), open_starts(7, (2, 2, 2, 3))],
+            [((1, 1, 3), (2, 7, 4)), ((1, 7, 4),)])
+
+    def test_empty_and_one_word(self):
+        self.assertEqual(
+            [closing_starts(3, ()), starts(3, ()), starts(5, (5,)), starts(5, (3,))],
+            [((1, 3, 0),), (0,), (1,), (0, 1)])
+
+    def test_ones(self):
+        self.assertEqual(closing_starts(3, (1, 1)), ((1, 3, 2),))
+
+
+class StatesExamples(unittest.TestCase):
+    def test_states(self):
+        self.assertEqual(
+            [states(5, SHORT), settled_lines(5, SHORT), states(5, TWOS), settled_words(5, TWOS), states(6, TURNED)],
+            [("never", "always", "sometimes"), ((0, 2),), ("sometimes", "sometimes"), 0,
+             ("sometimes", "sometimes", "sometimes")])
+
+    def test_futures(self):
+        self.assertEqual(
+            [two_futures(5, SHORT, 2), shows_open(5, TWOS, 1, ((1, 5), ())), shows_open(5, TWOS, 1, ((1,), ())),
+             len(two_futures(5, TWOS, 1)[0])],
+            [None, True, False, 2])
+
+    def test_bad_place(self):
+        with self.assertRaises(BadPlace) as caught:
+            state_of(5, SHORT, 4)
+        self.assertEqual(caught.exception.value, 4)
+
+    def test_settled(self):
+        self.assertEqual(
+            [states(6, (6, 6)), settled_lines(6, (6, 6)), settled_lines(3, (1, 1)), states(5, (4, 5, 3))],
+            [("always", "always"), ((0, 1), (1, 2)), ((0, 2),), ("always", "always", "sometimes")])
+
+    def test_shows_open(self):
+        self.assertEqual(
+            [shows_open(5, (2, 2), 2, ((), (1, 5))), shows_open(5, (2, 2), 2, ((), (6,)))], [True, False])
+
+    def test_no_place_in_the_empty_text(self):
+        with self.assertRaises(BadPlace) as caught:
+            two_futures(5, (), 1)
+        self.assertEqual(caught.exception.value, 1)
+
+
+class SettlingExamples(unittest.TestCase):
+    def test_twos_and_short(self):
+        self.assertEqual(
+            [settling_words(5, TWOS, 1), settling_words(5, TWOS, 2), least_settling(5, TWOS, 1),
+             settling_words(5, SHORT, 1)],
+            [((2, 5),), ((2, 5),), 2, ((1, 5),)])
+
+    def test_twos_and_six(self):
+        self.assertEqual(
+            [settling_words(5, (2, 2), 2), least_settling(5, (2, 2), 2), settling_words(6, (6,), 1)],
+            [((2, 5),), 2, ((1, 6),)])
+
+    def test_bad_place(self):
+        with self.assertRaises(BadPlace) as caught:
+            least_settling(5, (2, 2), 3)
+        self.assertEqual(caught.exception.value, 3)
+
+
+class RepeatedExamples(unittest.TestCase):
+    def test_held_words_and_lag(self):
+        self.assertEqual(
+            [held_words(5, SHORT), lag(5, (), (2,)), lag(6, (3,), (2,)), lag(6, (), (6,))], [1, 2, None, 0])
+
+    def test_held_words(self):
+        self.assertEqual(
+            [held_words(5, ()), held_words(5, (2, 2)), held_words(5, (2, 2, 3)), held_words(5, (2, 2, 5))],
+            [0, 2, 1, 0])
+
+    def test_lag(self):
+        self.assertEqual([lag(5, (), (3,)), lag(5, (), (4,)), lag(5, (1, 1), (2, 5))], [1, 0, 0])
 
 
 if __name__ == "__main__":
