@@ -1,7 +1,7 @@
 """Where the line begins that goes on behind a text."""
 
 from settledlines.layouts import best_layout
-from settledlines.tables import cheapest, table_of
+from settledlines.tables import table_of
 
 
 def _crossings(table):
@@ -25,44 +25,50 @@ def outlook(table):
     return tuple([(room, cost - table.costs[-1]) for _, room, cost in _crossings(table)])
 
 
-def _closing_limit(chosen, later):
-    """Return the greatest length up to which the chosen line costs less than each later one, if both are closed."""
-    _, room, cost = chosen
-    limits = [room]
-    for _, other_room, other_cost in later:
-        # Of the squares of what is left behind length, the difference is linear in the length.
-        lead = other_cost + other_room ** 2 - cost - room ** 2
-        limits.append((lead - 1) // (2 * (other_room - room)))
-    return min(limits)
+def _closing_limit(crossing, later):
+    """Return the greatest length up to which a line costs less than a later one, if both are closed."""
+    _, room, cost = crossing
+    _, other_room, other_cost = later
+    # Of the squares of what is left behind length, the difference is linear in the length.
+    lead = other_cost + other_room ** 2 - cost - room ** 2
+    return min(room, (lead - 1) // (2 * (other_room - room)))
+
+
+def _open_limit(crossing, later):
+    """Return the greatest length up to which a line costs less than a later one, if both are the last line."""
+    _, room, cost = crossing
+    # A longer word takes lines away and changes no cost.
+    return room if cost < later[2] else 0
+
+
+def _ranges(table, limit):
+    """Return the ranges (low, high, start) for a next word, where limit tells up to which length
+    the line with the earlier one of two begins costs less."""
+    # (high, crossing), the latest begin and the greatest high first: of the crossings so far, this one is chosen for
+    # the lengths behind the next high up to high. What an earlier begin takes from them are the lowest lengths.
+    kept = []
+    for crossing in _crossings(table):
+        while kept and limit(crossing, kept[-1][1]) >= kept[-1][0]:
+            kept.pop()
+        high = limit(crossing, kept[-1][1]) if kept else crossing[1]
+        if high > 0:
+            kept.append((high, crossing))
+    ranges = []
+    low = 1
+    for high, crossing in kept[::-1]:
+        ranges.append((low, high, crossing[0]))
+        low = high + 1
+    return tuple(ranges)
 
 
 def closing_ranges(table):
     """Return the ranges (low, high, start) for a next word that is the last one of its line."""
-    crossings = _crossings(table)
-    ranges = []
-    low = 1
-    while low <= table.line_width:
-        rated = [(cost + (room - low) ** 2, begin) for begin, room, cost in crossings if room >= low]
-        start = cheapest(rated)[1][0]
-        at = len(table.words) - start
-        high = _closing_limit(crossings[at], crossings[:at])
-        ranges.append((low, high, start))
-        low = high + 1
-    return tuple(ranges)
+    return _ranges(table, _closing_limit)
 
 
 def open_ranges(table):
     """Return the ranges (low, high, start) for a next word that is in the last line."""
-    crossings = _crossings(table)
-    ranges = []
-    low = 1
-    while low <= table.line_width:
-        start = cheapest([(cost, begin) for begin, room, cost in crossings if room >= low])[1][0]
-        # A longer word takes lines away and changes no cost, so the start stays as long as its line has room.
-        _, high, _ = crossings[len(table.words) - start]
-        ranges.append((low, high, start))
-        low = high + 1
-    return tuple(ranges)
+    return _ranges(table, _open_limit)
 
 
 def all_starts(table):

@@ -49,12 +49,16 @@ def settled_end(table):
     """Return the number of the words in the settled lines."""
     # The lines that the closed layouts up to all starts have in common: the best layout of the text alone has
     # these, too, for its last line is that of the closed layout, or it begins at a start.
-    ends = all_starts(table)
-    while len(ends) > 1:
-        # The greatest end is in none of the other layouts, so the line that ends there is not common.
-        last = ends.pop()
-        ends = sorted(set(ends + [table.begins[last][0]]))
-    return ends[0]
+    starts_here = all_starts(table)
+    waiting = set(starts_here)
+    end = starts_here[-1]
+    while len(waiting) > 1:
+        if end in waiting:
+            # The greatest end is in none of the other layouts, so the line that ends there is not common.
+            waiting.discard(end)
+            waiting.add(table.begins[end][0])
+        end -= 1
+    return sorted(waiting)[0]
 
 
 def settled_lines(width, text):

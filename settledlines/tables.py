@@ -62,12 +62,12 @@ def last_begins(table):
     return cheapest([(table.costs[begin], begin) for begin, _ in lines])[1]
 
 
-def closed_ends(table, many):
-    """Return the closed layout of so many first words."""
+def closed_ends(table, many, begin=0):
+    """Return the ends behind a begin of the closed layout of so many first words."""
     # Layouts are compared from their last end on, so the latest begin decides at each line.
     ends = []
     end = many
-    while end > 0:
+    while end > begin:
         ends.append(end)
         end = table.begins[end][0]
     return tuple(ends[::-1])

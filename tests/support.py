@@ -125,3 +125,36 @@ def states_by(ways, many):
 def settled_by(ways):
     """Return the lines of a text that are in all ways of left_ends."""
     return tuple(sorted(set.intersection(*[set(zip((0,) + ends, ends)) for ends, _ in ways])))
+
+
+def lines_between(text, ends):
+    """Return the lines with these ends as the tuples of their words."""
+    return tuple(text[begin:end] for begin, end in zip((0,) + ends, ends))
+
+
+def settled_words_by(laid_out, most):
+    """Return the settled lines of a text, as the tuples of their words, by all futures of at most so many words."""
+    return lines_between(laid_out.text, tuple(end for _, end in settled_by(left_ends(laid_out, most))))
+
+
+def random_words(chance, width, many):
+    """Return so many words, none longer than a random part of the width."""
+    longest = chance.randint(1, width)
+    return tuple(chance.randint(1, longest) for _ in range(many))
+
+
+def is_word(width, value):
+    return type(value) is int and 1 <= value <= width
+
+
+def is_text(width, value):
+    return type(value) is tuple and len(value) <= 300 and all(is_word(width, word) for word in value)
+
+
+def caught(call, *arguments):
+    """Return the error that a call raises, None if it raises none."""
+    try:
+        call(*arguments)
+    except Exception as error:  # The tests look at its kind.
+        return error
+    return None

@@ -4,7 +4,8 @@ import inspect
 import itertools
 import unittest
 
-from settledlines import layouts, repeated, settling, starts, states, words
+from settledlines import (desk, layouts, paragraphs, repeated, settling, starts, states, streams, strings,
+                          words)
 from settledlines.errors import BadPlace
 
 TEXT = (1, 1, 1, 1, 1, 6, 2)
@@ -44,6 +45,11 @@ CALLS = [
     (repeated.held_words, {"width": 6, "text": TEXT}),
     (repeated.lag, {"width": 6, "start": TEXT, "pattern": (2, 1)}),
     (repeated.lag, {"width": 6, "start": (3,), "pattern": (2,)}),
+    (strings.read_words, {"source": "to be or not"}),
+    (strings.typeset, {"width": 6, "source": "to be or not"}),
+    (strings.settled_part, {"width": 6, "source": "to be or not"}),
+    (strings.show_text, {"text": TEXT}),
+    (strings.read_text, {"width": 6, "source": "1 6 2"}),
 ]
 KINDS = {
     "is_width": bool, "is_text": bool, "line_length": int, "gap": int, "last_end": int, "is_layout": bool,
@@ -51,7 +57,8 @@ KINDS = {
     "closed_cost": int, "count_best": int, "best_layouts": list, "start_of": int, "starts": tuple,
     "closing_starts": tuple, "open_starts": tuple, "state_of": str, "states": tuple, "settled_lines": tuple,
     "settled_words": int, "two_futures": tuple, "shows_open": bool, "settling_words": tuple, "least_settling": int,
-    "held_words": int, "lag": int,
+    "held_words": int, "lag": int, "read_words": tuple, "typeset": str, "settled_part": str, "show_text": str,
+    "read_text": tuple,
 }
 # What returns None for some arguments, and such arguments.
 NONE_FOR = [(states.two_futures, (6, TEXT, 1)), (repeated.lag, (6, (3,), (2,)))]
@@ -71,7 +78,17 @@ FILES = {
     states: ["state_of", "states", "settled_lines", "settled_words", "two_futures", "shows_open"],
     settling: ["settling_words", "least_settling"],
     repeated: ["held_words", "lag"],
+    strings: ["read_words", "typeset", "settled_part", "show_text", "read_text"],
 }
+# The classes, and what stands in each of them.
+CLASSES = {
+    streams.Stream: ["__init__", "put", "put_all", "close", "width", "given", "held", "is_closed", "twin", "__len__",
+                     "__enter__", "__exit__"],
+    paragraphs.Paragraph: ["__init__", "width", "text", "layout", "cost", "insert", "remove", "widen", "firm", "undo",
+                           "edits", "of", "twin", "__eq__", "__len__"],
+    desk.Desk: ["__init__", "say"],
+}
+CLASS_FILES = {streams.Stream: streams, paragraphs.Paragraph: paragraphs, desk.Desk: desk}
 
 
 def outcome(result):
@@ -152,6 +169,12 @@ class Calls(unittest.TestCase):
             for name in names:
                 self.assertEqual(getattr(module, name).__module__, module.__name__)
         self.assertEqual({name for names in FILES.values() for name in names}, set(KINDS))
+
+    def test_classes_stand_in_their_files(self):
+        for kind, module in CLASS_FILES.items():
+            self.assertEqual(kind.__module__, module.__name__)
+            self.assertIs(getattr(module, kind.__name__), kind)
+            self.assertLessEqual(set(CLASSES[kind]), set(vars(kind)))
 
 
 if __name__ == "__main__":

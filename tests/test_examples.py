@@ -1,14 +1,18 @@
-"""The examples of points 5 to 10 of the document."""
+"""The examples of points 5 to 13 of the document."""
 
 import unittest
 
-from settledlines.errors import BadPlace, TooLong
+from settledlines.desk import Desk
+from settledlines.errors import BadLine, BadPlace, BadSource, BadText, BadWidth, BadWord, Closed, NoStream, TooLong
 from settledlines.layouts import (best_cost, best_layout, best_layouts, closed_cost, closed_layout, cost, count_best,
                                   full_cost, is_layout, lines_of)
+from settledlines.paragraphs import Paragraph
 from settledlines.repeated import held_words, lag
 from settledlines.settling import least_settling, settling_words
 from settledlines.starts import closing_starts, open_starts, start_of, starts
 from settledlines.states import settled_lines, settled_words, shows_open, state_of, states, two_futures
+from settledlines.streams import Stream
+from settledlines.strings import read_text, read_words, settled_part, show_text, typeset
 from settledlines.words import gap, is_text, is_width, last_end, line_length
 
 TWOS = (2, 2)
@@ -168,6 +172,115 @@ class RepeatedExamples(unittest.TestCase):
 
     def test_lag(self):
         self.assertEqual([lag(5, (), (3,)), lag(5, (), (4,)), lag(5, (1, 1), (2, 5))], [1, 0, 0])
+
+
+class StreamsExamples(unittest.TestCase):
+    def test_short(self):
+        stream = Stream(5)
+        self.assertEqual(
+            [stream.put_all(2, 2), stream.put(3), stream.held, stream.close(), stream.given, len(stream)],
+            [(), ((2, 2),), (3,), ((3,),), ((2, 2), (3,)), 3])
+
+    def test_bad_word(self):
+        with self.assertRaises(BadWord) as caught:
+            Stream(5).put(6)
+        self.assertEqual(caught.exception.value, 6)
+
+    def test_turned(self):
+        stream = Stream(6)
+        self.assertEqual(
+            [stream.put_all(3, 2, 2), stream.held, stream.put(6), stream.given, stream.held],
+            [(), (3, 2, 2), ((3,), (2, 2), (6,)), ((3,), (2, 2), (6,)), ()])
+
+    def test_closed(self):
+        stream = Stream(5)
+        self.assertEqual(stream.close(), ())
+        with self.assertRaises(Closed):
+            stream.put(0)
+
+    def test_twin(self):
+        stream = Stream(5)
+        twin = stream.twin()
+        self.assertEqual(
+            [stream.put_all(2, 2, 3), twin.put(5), twin.given, stream.given, len(twin)],
+            [((2, 2),), ((5,),), ((5,),), ((2, 2),), 1])
+
+
+class ParagraphsExamples(unittest.TestCase):
+    def test_short(self):
+        part = Paragraph(5, SHORT)
+        self.assertEqual(
+            [part.firm(3), part.firm(2), part.insert(0, (4,)), part.layout(), part.undo(), part.layout(), part.edits()],
+            [((0, 2),), (), None, (1, 3, 4), None, (2, 3), 0])
+        with self.assertRaises(BadWidth) as caught:
+            part.widen(2)
+        self.assertEqual(caught.exception.value, 2)
+
+    def test_turned(self):
+        part = Paragraph(6, (3, 2, 2))
+        self.assertEqual(
+            (part.layout(), part.cost(), part.firm(3), part.widen(7), part.layout(), part.edits(), part.undo(),
+             part.width),
+            ((2, 3), 0, (), None, (2, 3), 1, None, 6))
+
+    def test_bad_place(self):
+        part = Paragraph(5, (2, 2, 3))
+        with self.assertRaises(BadPlace) as caught:
+            part.remove(2, 1)
+        self.assertEqual(caught.exception.value, 1)
+
+    def test_bad_text(self):
+        part = Paragraph(5, (2, 2, 3))
+        with self.assertRaises(BadText) as caught:
+            part.insert(3, (6,))
+        self.assertEqual(caught.exception.value, (6,))
+
+    def test_of(self):
+        part = Paragraph.of("to be or not", 7)
+        self.assertEqual((part.text, part.layout(), part.firm(4)), ((2, 2, 2, 3), (2, 4), ((0, 2),)))
+        with self.assertRaises(BadText) as caught:
+            Paragraph.of("to be", 1)
+        self.assertEqual(caught.exception.value, (2, 2))
+
+
+class StringsExamples(unittest.TestCase):
+    def test_words_and_texts(self):
+        self.assertEqual(
+            [typeset(7, "to be or not"), settled_part(7, "to be or not"), show_text(SHORT), read_text(5, "2 2 3"),
+             show_text(())],
+            ["to be\nor not", "to be", "2 2 3", (2, 2, 3), "-"])
+
+    def test_bad_sources(self):
+        for call, arguments, position in [(read_words, ("to  be",), 3), (read_words, ("to be ",), 6),
+                                          (read_text, (5, "2 02"), 0)]:
+            with self.assertRaises(BadSource) as caught:
+                call(*arguments)
+            self.assertEqual(caught.exception.position, position)
+
+
+class DeskExamples(unittest.TestCase):
+    def test_close(self):
+        desk = Desk()
+        self.assertEqual(
+            [desk.say("width 5"), desk.say("put 2 2"), desk.say("state 1"), desk.say("put 3"), desk.say("held"),
+             desk.say("close")],
+            ["done", "-", "sometimes", "2 2", "3", "3"])
+
+    def test_text(self):
+        desk = Desk()
+        self.assertEqual(
+            (desk.say("width 5"), desk.say("put 2 2"), desk.say("layout"), desk.say("state 2"), desk.say("put 3"),
+             desk.say("futures 2"), desk.say("text")),
+            ("done", "-", "2", "sometimes", "2 2", "settled", "2 2 3"))
+
+    def test_no_stream(self):
+        with self.assertRaises(NoStream):
+            Desk().say("held")
+
+    def test_bad_line(self):
+        with self.assertRaises(BadLine) as caught:
+            Desk().say("put 02")
+        self.assertEqual(caught.exception.line, "put 02")
 
 
 if __name__ == "__main__":
